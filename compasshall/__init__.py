@@ -1,0 +1,1 @@
+"""Compasshall: drawings by ruler and ring, with exact places."""

@@ -1,0 +1,24 @@
+"""Whole numbers: the greatest common divisor and the whole root."""
+
+from compasshall.errors import Below
+
+
+def common(a, b):
+    one = abs(a)
+    other = abs(b)
+    while other != 0:
+        rest = one % other
+        one = other
+        other = rest
+    return one
+
+
+def whole_root(n):
+    if n < 0:
+        raise Below("a number below nought has no whole root")
+    # The first guess is not below the root, and no later one falls below it:
+    # so the first one whose square is not above n is the root.
+    guess = 1 << ((n.bit_length() + 1) // 2)
+    while guess * guess > n:
+        guess = (guess + n // guess) // 2
+    return guess
