@@ -52,6 +52,21 @@ def walked(kinds):
     return [(path, node) for path, tree in trees() for node in ast.walk(tree) if isinstance(node, kinds)]
 
 
+def imported(tree):
+    rows = [node for node in ast.walk(tree) if isinstance(node, ast.ImportFrom)]
+    return [(row.module, one.name) for row in rows for one in row.names]
+
+
+def bound_at_the_top(tree):
+    bound = []
+    for node in tree.body:
+        if isinstance(node, (ast.FunctionDef, ast.ClassDef)):
+            bound.append(node.name)
+        elif isinstance(node, ast.Assign):
+            bound.append(node.targets[0].id)
+    return bound
+
+
 def python_methods():
     found = set()
     for value in ("", 0, [], (), {}, set(), b""):
@@ -100,6 +115,27 @@ class Forms(unittest.TestCase):
                 self.assertTrue(node.module.startswith("compasshall."), path)
                 self.assertNotIn("*", [one.name for one in node.names], path)
 
+    def test_each_name_is_drawn_from_the_file_that_defines_it(self):
+        bound = {"compasshall." + path.stem: bound_at_the_top(tree) for path, tree in trees()}
+        for path, tree in trees():
+            for module, name in imported(tree):
+                self.assertIn(name, bound[module], path)
+
+    def test_no_two_files_draw_from_one_another(self):
+        drawn = {"compasshall." + path.stem: {module for module, name in imported(tree)} for path, tree in trees()}
+        for start in drawn:
+            reached, fresh = set(), {start}
+            while fresh:
+                fresh = set().union(*[drawn[module] for module in fresh]) - reached
+                reached |= fresh
+            self.assertNotIn(start, reached)
+
+    def test_each_name_that_is_drawn_is_used(self):
+        for path, tree in trees():
+            used = [node.id for node in ast.walk(tree) if isinstance(node, ast.Name)]
+            for module, name in imported(tree):
+                self.assertIn(name, used, path)
+
     def test_the_top_of_a_file(self):
         for path, tree in trees():
             for at, node in enumerate(tree.body):
@@ -120,6 +156,28 @@ class Forms(unittest.TestCase):
             self.assertFalse(node.decorator_list or node.keywords, (path, node.name))
             for part in node.body:
                 self.assertIsInstance(part, (ast.FunctionDef, ast.Pass), (path, node.name))
+
+    def test_a_row_by_itself_is_a_call(self):
+        for path, tree in trees():
+            for node in ast.walk(tree):
+                if isinstance(node, ast.Expr) and node is not tree.body[0]:
+                    self.assertIsInstance(node.value, ast.Call, (path, node.lineno))
+
+    def test_pythons_walks_are_walked_at_once(self):
+        walkers = ("list", "tuple", "dict", "sorted", "sum", "any", "all", "enumerate", "zip", "min", "max", "join")
+        for path, tree in trees():
+            walked_ones = []
+            for node in ast.walk(tree):
+                if isinstance(node, (ast.For, ast.comprehension)):
+                    walked_ones.append(node.iter)
+                elif isinstance(node, ast.Call) and node.args:
+                    called = getattr(node.func, "id", None) or getattr(node.func, "attr", None)
+                    if called in walkers:
+                        walked_ones.append(node.args[0])
+            for node in ast.walk(tree):
+                called = getattr(getattr(node, "func", None), "id", None)
+                if called in ("zip", "enumerate", "reversed", "range"):
+                    self.assertIn(node, walked_ones, (path, node.lineno))
 
     def test_one_target(self):
         for path, node in walked(ast.Assign):
@@ -183,15 +241,19 @@ class Names(unittest.TestCase):
 
     def test_each_name_is_bound_once_at_the_top(self):
         for path, tree in trees():
-            bound = []
-            for node in tree.body:
-                if isinstance(node, ast.ImportFrom):
-                    bound.extend(one.asname or one.name for one in node.names)
-                elif isinstance(node, (ast.FunctionDef, ast.ClassDef)):
-                    bound.append(node.name)
-                elif isinstance(node, ast.Assign):
-                    bound.append(node.targets[0].id)
+            bound = bound_at_the_top(tree) + [name for module, name in imported(tree)]
             self.assertEqual(len(bound), len(set(bound)), path)
+
+    def test_no_local_is_called_like_a_name_of_the_files_top(self):
+        for path, tree in trees():
+            bound = bound_at_the_top(tree) + [name for module, name in imported(tree)]
+            inner = [node for part in tree.body if isinstance(part, (ast.FunctionDef, ast.ClassDef))
+                     for node in ast.walk(part)]
+            for node in inner:
+                if isinstance(node, ast.arg):
+                    self.assertNotIn(node.arg, bound, (path, node.lineno))
+                if isinstance(node, ast.Name) and isinstance(node.ctx, ast.Store):
+                    self.assertNotIn(node.id, bound, (path, node.lineno))
 
 
 if __name__ == "__main__":

@@ -1,0 +1,172 @@
+"""What several tests need: scaffolds, numbers over them, and a second way to reckon with them."""
+
+import decimal
+import functools
+import math
+from fractions import Fraction
+
+NONE = ()
+ONE_ROOT = [((2,),), ((3,),), ((12,),), ((10 ** 19 + 51,),)]
+TWO_ROOTS = [
+    ((2,), (0, 3)), ((2,), (3, 0)), ((2,), (2, 1)), ((2,), (10, -7)), ((5,), (10, -2)), ((7,), (-5, 2)),
+]
+THREE_ROOTS = [
+    ((2,), (3, 0), (5, 0, 0, 0)), ((2,), (2, 1), (2, 0, 1, 0)), ((2,), (0, 3), (5, 1, 1, 0)),
+    ((3,), (0, 1), (0, 0, 1, 0)), ((2,), (3, 0), (-9, 0, 4, 2)),
+]
+ALL = [NONE] + ONE_ROOT + TWO_ROOTS + THREE_ROOTS
+WITH_ROOTS = ONE_ROOT + TWO_ROOTS + THREE_ROOTS
+
+GREAT = 10 ** 20
+FIGURES = 1500
+
+
+class Wheel:
+    """Numbers that look mixed and are the same in each run."""
+
+    def __init__(self, seed):
+        self.state = seed
+
+    def below(self, bound):
+        result = 0
+        for _ in range(bound.bit_length() // 32 + 1):
+            self.state = (self.state * 6364136223846793005 + 1442695040888963407) % 2 ** 64
+            result = result * 2 ** 32 + (self.state >> 32)
+        return result % bound
+
+    def between(self, low, high):
+        return low + self.below(high - low + 1)
+
+    def number(self, roots, greatest=9, bottom=6):
+        tops = [self.between(-greatest, greatest) for _ in range(2 ** len(roots))]
+        return lowest(tops, self.between(1, bottom))
+
+
+def numbers_over(roots, seed, many, greatest=9, bottom=6):
+    wheel = Wheel(seed)
+    return [wheel.number(roots, greatest, bottom) for _ in range(many)]
+
+
+def edges_over(roots):
+    """Nought, one, less than one, each root alone, and numbers of twenty figures."""
+    places = 2 ** len(roots)
+    told = [lowest([0] * places, 1), lowest([1] + [0] * (places - 1), 1), lowest([-3] + [0] * (places - 1), 4)]
+    for k in range(len(roots)):
+        told.append(lowest([1 if i == 2 ** k else 0 for i in range(places)], 1))
+    told.append(lowest([-1] * places, 2))
+    told.extend(numbers_over(roots, 20, 2, GREAT, GREAT))
+    return told
+
+
+def lowest(tops, bottom):
+    shared = math.gcd(bottom, *tops)
+    return (tuple(top // shared for top in tops), bottom // shared)
+
+
+def whole(roots, n):
+    return ((n,) + (0,) * (2 ** len(roots) - 1), 1)
+
+
+def fraction(roots, top, bottom):
+    return lowest([top] + [0] * (2 ** len(roots) - 1), bottom)
+
+
+def last_root(roots):
+    half = 2 ** (len(roots) - 1)
+    return ((0,) * half + (1,) + (0,) * (half - 1), 1)
+
+
+# The second way: a number as a dict, from the bits of the roots in a product to the fraction before it.
+
+
+def parted(x):
+    return {i: Fraction(top, x[1]) for i, top in enumerate(x[0]) if top != 0}
+
+
+def joined(parts, many):
+    bottom = math.lcm(*[part.denominator for part in parts.values()])
+    tops = [0] * 2 ** many
+    for i, part in parts.items():
+        tops[i] = int(part * bottom)
+    return lowest(tops, bottom)
+
+
+def parts_plus(one, other):
+    total = dict(one)
+    for i, part in other.items():
+        total[i] = total.get(i, Fraction(0)) + part
+    return {i: part for i, part in total.items() if part != 0}
+
+
+def parts_times(roots, one, other):
+    total = {}
+    for i, first in one.items():
+        for j, second in other.items():
+            product = {i ^ j: first * second}
+            for k in range(len(roots) - 1, -1, -1):
+                if (i & j) >> k & 1:
+                    product = parts_times(roots, product, parted((roots[k], 1)))
+            total = parts_plus(total, product)
+    return total
+
+
+def sum_of(x, y):
+    return joined(parts_plus(parted(x), parted(y)), (len(x[0]) - 1).bit_length())
+
+
+def product_of(roots, x, y):
+    return joined(parts_times(roots, parted(x), parted(y)), len(roots))
+
+
+def value(roots, x):
+    """So many figures of the number that its sign and its floors are beyond doubt (where it is no fraction)."""
+    with decimal.localcontext() as context:
+        context.prec = FIGURES
+        return value_of_tops(spans_of(roots), x[0]) / decimal.Decimal(x[1])
+
+
+@functools.cache
+def spans_of(roots):
+    if len(roots) == 0:
+        return ()
+    spans = spans_of(roots[:-1])
+    return spans + (value_of_tops(spans, roots[-1]).sqrt(),)
+
+
+def value_of_tops(spans, tops):
+    total = decimal.Decimal(0)
+    for i, top in enumerate(tops):
+        part = decimal.Decimal(top)
+        for k, span in enumerate(spans):
+            if i >> k & 1:
+                part *= span
+        total += part
+    return total
+
+
+def sign_of(roots, x):
+    if not any(x[0]):
+        return 0
+    return 1 if value(roots, x) > 0 else -1
+
+
+class Looks:
+    """Looks that test cases share."""
+
+    def assert_number(self, roots, x):
+        self.assertIs(type(x), tuple)
+        self.assertEqual(len(x), 2)
+        self.assertIs(type(x[0]), tuple)
+        self.assertEqual(len(x[0]), 2 ** len(roots))
+        for n in x[0] + (x[1],):
+            self.assertIs(type(n), int)
+        self.assertGreaterEqual(x[1], 1)
+        self.assertEqual(math.gcd(x[1], *x[0]), 1)
+
+    def assert_refused(self, kind, call, *given):
+        try:
+            told = call(*given)
+        except ValueError as refusal:
+            self.assertIs(type(refusal), kind)
+            return refusal
+        self.fail(f"not refused, but told: {told!r}")
