@@ -44,12 +44,11 @@ def floor_at(roots, x, places=0):
     tops = tuple([top * scale for top in x[0]])
     bits = FIRST_BITS
     around = floors_around(roots, tops, x[1], bits)
-    while around[1] - around[0] > 1:
+    # A number that needs a root is never whole, and a fraction is its own lower bound: so both come to one.
+    while around[0] != around[1]:
         bits *= 2
         around = floors_around(roots, tops, x[1], bits)
-    # Of a whole number the bounds may never come to one floor, so the sign tells between the last two.
-    rest = (tops[0] - around[1] * x[1],) + tops[1:]
-    return around[1] if sign_of_tops(roots, rest) >= 0 else around[0]
+    return around[0]
 
 
 def ten_times_itself(places):

@@ -1,7 +1,7 @@
 """Numbers over a scaffold: made, added, multiplied, lifted and parted."""
 
 from compasshall.errors import NoOver
-from compasshall.wholes import common
+from compasshall.wholes import are_wholes, common, is_whole
 
 
 def made(tops, bottom):
@@ -52,6 +52,14 @@ def halves(x):
 
 def is_nought(x):
     return are_noughts(x[0])
+
+
+def is_number(thing, many):
+    if not isinstance(thing, tuple) or len(thing) != 2:
+        return False
+    if not are_wholes(thing[0], 1 << many) or not is_whole(thing[1]) or thing[1] < 1:
+        return False
+    return made(thing[0], thing[1]) == thing
 
 
 # From here on tops stand alone, as whole sums of products of roots: without a bottom

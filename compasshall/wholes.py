@@ -1,6 +1,14 @@
-"""Whole numbers: the greatest common divisor and the whole root."""
+"""Whole numbers: what they are, the greatest common divisor and the whole root."""
 
 from compasshall.errors import Below
+
+
+def is_whole(thing):
+    return isinstance(thing, int) and not isinstance(thing, bool)
+
+
+def are_wholes(thing, many):
+    return isinstance(thing, tuple) and len(thing) == many and all([is_whole(one) for one in thing])
 
 
 def common(a, b):

@@ -114,6 +114,10 @@ def sum_of(x, y):
     return joined(parts_plus(parted(x), parted(y)), (len(x[0]) - 1).bit_length())
 
 
+def less(x, y):
+    return sum_of(x, (tuple(-top for top in y[0]), y[1]))
+
+
 def product_of(roots, x, y):
     return joined(parts_times(roots, parted(x), parted(y)), len(roots))
 
@@ -148,6 +152,50 @@ def sign_of(roots, x):
     if not any(x[0]):
         return 0
     return 1 if value(roots, x) > 0 else -1
+
+
+def point(roots, x, y):
+    return (whole(roots, x), whole(roots, y))
+
+
+def points_over(roots, seed, many):
+    given = numbers_over(roots, seed, 2 * many)
+    return list(zip(given[::2], given[1::2]))
+
+
+def left_of_line(roots, line, place):
+    """a * x + b * y - c."""
+    return less(sum_of(product_of(roots, line[0], place[0]), product_of(roots, line[1], place[1])), line[2])
+
+
+def far_by_hand(roots, one, other):
+    e, f = less(one[0], other[0]), less(one[1], other[1])
+    return sum_of(product_of(roots, e, e), product_of(roots, f, f))
+
+
+def turn(roots, one, other, third):
+    """Above nought where the third point is at the left as one goes from the one to the other."""
+    e, f = less(other[0], one[0]), less(other[1], one[1])
+    g, h = less(third[0], one[0]), less(third[1], one[1])
+    return less(product_of(roots, e, h), product_of(roots, f, g))
+
+
+class Thorn:
+    """A thing that bears no look: whatever compares it, asks its length or walks it fails."""
+
+    def __eq__(self, other):
+        raise RuntimeError("compared")
+
+    def __len__(self):
+        raise RuntimeError("measured")
+
+    def __iter__(self):
+        raise RuntimeError("walked")
+
+    def __bool__(self):
+        raise RuntimeError("asked")
+
+    __hash__ = None
 
 
 class Looks:

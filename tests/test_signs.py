@@ -5,7 +5,7 @@ import decimal
 import unittest
 
 from compasshall.overs import norm
-from compasshall.signs import compare, floor_at, sign, size
+from compasshall.signs import bounds, compare, floor_at, sign, size
 from compasshall.sums import against, halves, lifted, made, minus, plus, times
 from handy import (ALL, FIGURES, GREAT, ONE_ROOT, THREE_ROOTS, TWO_ROOTS, WITH_ROOTS, Looks, edges_over, fraction,
                    last_root, numbers_over, sign_of, value, whole)
@@ -254,6 +254,24 @@ class Floor(unittest.TestCase):
             scaled = made(tuple(top * 10 ** 60 for top in x[0]), x[1])
             self.assertGreaterEqual(compare(roots, scaled, whole(roots, told)), 0)
             self.assertEqual(compare(roots, scaled, whole(roots, told + 1)), -1)
+
+
+class Bounds(unittest.TestCase):
+    def test_the_number_lies_between_however_rough_they_are(self):
+        for roots in ALL:
+            for x in edges_over(roots) + numbers_over(roots, 55, 200, 3, 1):
+                exact = value(roots, (x[0], 1))
+                for fine in (1, 2, 3, 16, 17, 2 ** 64):
+                    low, high = bounds(roots, x[0], fine)
+                    with decimal.localcontext() as context:
+                        context.prec = FIGURES
+                        self.assertTrue(low <= exact * fine <= high, (roots, x, fine))
+
+    def test_they_come_as_near_as_wanted(self):
+        for roots in ALL:
+            for x in numbers_over(roots, 56, 10):
+                low, high = bounds(roots, x[0], 2 ** 64)
+                self.assertLess(high - low, 2 ** 44)
 
 
 class WhatIsHandedIn(unittest.TestCase):
