@@ -40,9 +40,17 @@ def far(roots, one, other):
     return sum_of_products(roots, way, way)
 
 
+def beyond_line(roots, line, point):
+    return minus(sum_of_products(roots, line, point), line[2])
+
+
+def beyond_ring(roots, ring, point):
+    return minus(far(roots, ring, point), ring[2])
+
+
 def side_of_line(roots, line, point):
-    return sign(roots, minus(sum_of_products(roots, line, point), line[2]))
+    return sign(roots, beyond_line(roots, line, point))
 
 
 def side_of_ring(roots, ring, point):
-    return sign(roots, minus(far(roots, ring, point), ring[2]))
+    return sign(roots, beyond_ring(roots, ring, point))

@@ -2,7 +2,7 @@
 
 from compasshall.overs import norm_tops
 from compasshall.sums import against, behind_tops, front_tops, minus
-from compasshall.wholes import whole_root
+from compasshall.wholes import ten_times_itself, whole_root
 
 FIRST_BITS = 64
 
@@ -49,13 +49,6 @@ def floor_at(roots, x, places=0):
         bits *= 2
         around = floors_around(roots, tops, x[1], bits)
     return around[0]
-
-
-def ten_times_itself(places):
-    product = 1
-    for place in range(places):
-        product *= 10
-    return product
 
 
 def floors_around(roots, tops, bottom, bits):

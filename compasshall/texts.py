@@ -1,10 +1,12 @@
-"""Fractions written as texts and read from them."""
+"""Fractions written as texts and read from them, and names."""
 
 from compasshall.errors import NoText
 from compasshall.wholes import common
 
 FIGURES = "0123456789"
 MOST_FIGURES = 60
+LETTERS = "abcdefghijklmnopqrstuvwxyz"
+MOST_LETTERS = 6
 
 
 def fraction_read(text):
@@ -54,3 +56,10 @@ def figures_of(n):
         rest = rest // piece
     pieces.append(str(rest))
     return "".join(reversed(pieces))
+
+
+def is_name(word):
+    if word == "" or len(word) > MOST_LETTERS:
+        return False
+    # islower takes the letters of other scripts too.
+    return all([letter in LETTERS for letter in word])

@@ -1,4 +1,4 @@
-"""Whole numbers: what they are, the greatest common divisor and the whole root."""
+"""Whole numbers: what they are, how many figures they have, the greatest common divisor and the whole root."""
 
 from compasshall.errors import Below
 
@@ -9,6 +9,17 @@ def is_whole(thing):
 
 def are_wholes(thing, many):
     return isinstance(thing, tuple) and len(thing) == many and all([is_whole(one) for one in thing])
+
+
+def ten_times_itself(many):
+    product = 1
+    for time in range(many):
+        product *= 10
+    return product
+
+
+def has_more_figures(n, many):
+    return abs(n) >= ten_times_itself(many)
 
 
 def common(a, b):

@@ -20,6 +20,33 @@ WITH_ROOTS = ONE_ROOT + TWO_ROOTS + THREE_ROOTS
 GREAT = 10 ** 20
 FIGURES = 1500
 
+# Rows of drawings without roots, with one root, with two and with three, each put in by another kind of row.
+PLAIN = [
+    "point a 0 0", "point b 6 0", "point c 0 4", "point d 3/2 -7/3", "line ab a b", "line cd c d", "meet e ab cd",
+    "ring r a by 25", "line up c e", "point f -3 4", "line cf c f", "meet g cf r first", "meet h cf r second",
+    "ring s b g", "ring t b by 25", "meet i r t first", "meet j r t second", "line ij j i",
+]
+SIXTH = [
+    "point a 0 0", "point b 1 0", "ring r a b", "ring s b a", "meet c r s first", "meet d r s second", "line ab a b",
+    "line cd d c", "meet e ab cd", "ring t c a", "meet f t r first", "line bc b c", "point g 2 -1/3",
+]
+FIFTH = [
+    "point o 0 0", "point t 0 1", "point m -1/2 0", "ring r o t", "ring s m t", "line x m o", "meet q x s second",
+    "ring k t q", "meet a k r first", "meet b k r second", "ring ka a t", "meet c ka r first", "ring kb b t",
+    "meet d kb r second", "line ab a b", "line cd c d", "line tm t m",
+]
+HALVED = [
+    "point o 0 0", "point a 1 0", "point c 1 1", "ring r o a", "line oc o c", "meet d oc r second", "ring ra a o",
+    "ring rd d o", "meet e ra rd first", "meet f ra rd second", "line oe e f", "meet g oe r first",
+    "meet h oe r second", "ring rg g o", "meet i ra rg first", "line oi o i", "meet j oi r second",
+]
+MIXED = [
+    "point a 0 0", "point b 1 0", "point c 1/2 7/3", "point k 2 5", "ring r a b", "ring s b a", "meet d r s first",
+    "ring t c by 4", "line ck c k", "meet e ck t second", "line bk b k", "ring u d by 2", "meet f bk u first",
+    "line ad a d", "meet h ad ck", "ring v h b",
+]
+DRAWINGS = [PLAIN, SIXTH, FIFTH, HALVED, MIXED]
+
 
 class Wheel:
     """Numbers that look mixed and are the same in each run."""
@@ -196,6 +223,12 @@ class Thorn:
         raise RuntimeError("asked")
 
     __hash__ = None
+
+
+NO_TEXTS = [
+    None, True, False, 0, 1, -1, GREAT, (), (1, 2), [], [""], {}, set(), b"", object(), Thorn(), (Thorn(),), [Thorn()],
+    str, range(3), ("",), [None],
+]
 
 
 class Looks:

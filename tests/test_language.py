@@ -37,6 +37,10 @@ append clear copy count endswith extend find get index insert isalnum isalpha is
 keys ljust lower lstrip partition pop remove replace reverse rfind rjust rpartition rsplit rstrip setdefault split
 splitlines startswith strip update upper values zfill bit_length
 """.split()
+# L26: what no value of an object is called.
+NO_VALUES = """
+items keys values pop update append clear extend insert remove reverse setdefault sort args encode format
+""".split()
 TWO_UNDERSCORES = ["__init__", "__eq__", "__repr__", "__str__", "__len__"]
 
 
@@ -156,6 +160,60 @@ class Forms(unittest.TestCase):
             self.assertFalse(node.decorator_list or node.keywords, (path, node.name))
             for part in node.body:
                 self.assertIsInstance(part, (ast.FunctionDef, ast.Pass), (path, node.name))
+
+    def test_no_name_is_a_method_and_a_value(self):
+        methods = {part.name for path, node in walked(ast.ClassDef) for part in node.body
+                   if isinstance(part, ast.FunctionDef)}
+        values = {node.attr for path, node in walked(ast.Attribute) if isinstance(node.ctx, ast.Store)}
+        self.assertEqual(methods & values, set())
+        self.assertEqual(values & set(NO_VALUES), set())
+
+    def test_values_are_given_through_local_names(self):
+        for path, node in walked(ast.Attribute):
+            if isinstance(node.ctx, ast.Store):
+                self.assertIsInstance(node.value, ast.Name, (path, node.lineno))
+                self.assertTrue(node.value.id.islower(), (path, node.lineno))
+
+    def test_classes_are_called_or_bases_or_asked_for(self):
+        classes = {node.name for path, node in walked(ast.ClassDef)}
+        for path, tree in trees():
+            good = []
+            for node in ast.walk(tree):
+                if isinstance(node, ast.Call):
+                    good.append(node.func)
+                    if getattr(node.func, "id", None) == "isinstance":
+                        good.append(node.args[1])
+                    if getattr(node.func, "attr", None) == "__init__":
+                        good.append(node.func.value)
+                elif isinstance(node, ast.ClassDef):
+                    good.extend(node.bases)
+                elif isinstance(node, ast.ExceptHandler):
+                    good.append(node.type)
+            for node in ast.walk(tree):
+                if isinstance(node, ast.Name) and node.id in classes:
+                    self.assertIn(node, good, (path, node.lineno))
+
+    def test_errors_are_made_where_they_are_raised_and_taken_by_name(self):
+        own = {node.name for path, node in walked(ast.ClassDef)}
+        for path, node in walked(ast.Raise):
+            self.assertIsInstance(node.exc, ast.Call, (path, node.lineno))
+            self.assertIn(node.exc.func.id, own, (path, node.lineno))
+        for path, node in walked(ast.ExceptHandler):
+            self.assertIn(node.type.id, own | {"KeyError", "ZeroDivisionError"}, (path, node.lineno))
+
+    def test_lists_and_dicts_of_the_top_are_only_read(self):
+        for path, tree in trees():
+            kept = [node.targets[0].id for node in tree.body
+                    if isinstance(node, ast.Assign) and isinstance(node.value, (ast.List, ast.Dict))]
+            read = []
+            for node in ast.walk(tree):
+                if isinstance(node, ast.Subscript) and isinstance(node.ctx, ast.Load):
+                    read.append(node.value)
+                elif isinstance(node, ast.Compare):
+                    read.extend(node.comparators)
+            for node in ast.walk(tree):
+                if isinstance(node, ast.Name) and node.id in kept and isinstance(node.ctx, ast.Load):
+                    self.assertIn(node, read, (path, node.lineno))
 
     def test_a_row_by_itself_is_a_call(self):
         for path, tree in trees():
