@@ -64,6 +64,9 @@ class Wheel:
     def between(self, low, high):
         return low + self.below(high - low + 1)
 
+    def chosen(self, things):
+        return things[self.below(len(things))]
+
     def number(self, roots, greatest=9, bottom=6):
         tops = [self.between(-greatest, greatest) for _ in range(2 ** len(roots))]
         return lowest(tops, self.between(1, bottom))
@@ -205,6 +208,42 @@ def turn(roots, one, other, third):
     e, f = less(other[0], one[0]), less(other[1], one[1])
     g, h = less(third[0], one[0]), less(third[1], one[1])
     return less(product_of(roots, e, h), product_of(roots, f, g))
+
+
+def names_in(drawing, kind=None):
+    """The names of a drawing's rows, all or those of one kind."""
+    names = [row.split(" ")[1] for row in drawing.rows()]
+    return [name for name in names if kind is None or drawing.place(name)[0] == kind]
+
+
+def row_by_chance(wheel, drawing, most):
+    """A row, right in most cases or wrong in some way, for a drawing as it is now."""
+    there = names_in(drawing)
+    fresh = [one + other for other in "abc" for one in "abcdefghij" if one + other not in there]
+
+    def name_of(kind):
+        if wheel.below(25) == 0 or not names_in(drawing, kind):
+            return wheel.chosen(there + fresh[:2])
+        return wheel.chosen(names_in(drawing, kind))
+
+    def number():
+        top, bottom = wheel.between(-most, most), wheel.between(1, 1 + most // 2)
+        return str(top) if wheel.below(2) else f"{top}/{bottom}"
+
+    name = wheel.chosen(there) if there and wheel.below(25) == 0 else fresh[0]
+    way = wheel.below(13) if len(names_in(drawing, "point")) > 2 else 0
+    if way < 2:
+        return f"point {name} {number()} {number()}"
+    if way < 5:
+        return f"{'line' if way < 4 else 'ring'} {name} {name_of('point')} {name_of('point')}"
+    if way < 6:
+        return f"ring {name} {name_of('point')} by {number()}"
+    if way < 8:
+        return f"meet {name} {name_of('line')} {name_of('line')}"
+    if way < 12:
+        word = wheel.chosen(["first", "second", "second", "first", "first", "third"])
+        return f"meet {name} {name_of('line' if way < 10 else 'ring')} {name_of('ring')} {word}"
+    return wheel.chosen(["", "point", f"line {name}", f"ring {name} a by x", f"point {name} 1 01"])
 
 
 class Thorn:

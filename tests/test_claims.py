@@ -6,16 +6,11 @@ from compasshall.claims import Claim, claim_of
 from compasshall.drawings import Drawing, drawn
 from compasshall.errors import NoClaim, NoKind, NoName
 from handy import (DRAWINGS, FIFTH, GREAT, HALVED, MIXED, NO_TEXTS, PLAIN, SIXTH, Looks, Thorn, Wheel, far_by_hand,
-                   left_of_line, less, product_of, sign_of, sum_of, turn, whole)
+                   left_of_line, less, names_in, product_of, sign_of, sum_of, turn, whole)
 
 # How many names each claim has.
 NAMES = {"same": 2, "on": 2, "even": 4, "longer": 4, "square": 4, "middle": 3, "left": 3, "row": 3, "corners": 6}
 OF_POINTS = [word for word in NAMES if word != "on"]
-
-
-def names_of(drawing, kind):
-    names = [row.split(" ")[1] for row in drawing.rows()]
-    return [name for name in names if drawing.place(name)[0] == kind]
 
 
 def doubled(roots, x):
@@ -143,10 +138,10 @@ class Numbers(Claims):
     def test_claims_of_points_over_none_to_three_roots(self):
         for seed, rows in enumerate(DRAWINGS):
             drawing, wheel, counts = drawn(rows), Wheel(seed), {}
-            points = names_of(drawing, "point")
+            points = names_in(drawing, "point")
             for word in OF_POINTS:
                 for _ in range(40):
-                    names = [points[wheel.below(len(points))] for _ in range(NAMES[word])]
+                    names = [wheel.chosen(points) for _ in range(NAMES[word])]
                     true = self.assert_claim(drawing, " ".join([word] + names))
                     counts[(word, true)] = counts.get((word, true), 0) + 1
             # By chance a point is hardly ever the middle of two.
@@ -156,9 +151,9 @@ class Numbers(Claims):
     def test_on_for_all_points_lines_and_rings(self):
         for rows in DRAWINGS:
             drawing, counts = drawn(rows), {}
-            for name in names_of(drawing, "point"):
+            for name in names_in(drawing, "point"):
                 for kind in ("line", "ring"):
-                    for thing in names_of(drawing, kind):
+                    for thing in names_in(drawing, kind):
                         true = self.assert_claim(drawing, f"on {name} {thing}")
                         counts[(kind, true)] = counts.get((kind, true), 0) + 1
             self.assertEqual(len(counts), 4, rows)
@@ -221,7 +216,7 @@ class Numbers(Claims):
     def test_the_drawing_stays(self):
         for rows in DRAWINGS:
             drawing = drawn(rows)
-            names = [row.split(" ")[1] for row in rows]
+            names = names_in(drawing)
             before = (drawing.rows(), drawing.roots(), [drawing.place(name) for name in names])
             for text in ["same a c", "even a c a c", "on a r"]:
                 claim_of(text).asked(drawing)

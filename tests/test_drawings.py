@@ -12,16 +12,12 @@ from compasshall.steps import step_of
 from compasshall.sums import lifted
 from compasshall.texts import fraction_read
 from handy import (DRAWINGS, FIFTH, HALVED, MIXED, NO_TEXTS, PLAIN, SIXTH, Looks, Thorn, Wheel, far_by_hand,
-                   left_of_line, less, lowest, product_of, sign_of, sum_of, turn, whole)
+                   left_of_line, less, lowest, names_in, product_of, row_by_chance, sign_of, turn, whole)
 
 FRACTION = r"-?(?:0|[1-9][0-9]{0,59})(?:/[1-9][0-9]{0,59})?"
 NAME = "[a-z]{1,6}"
 ROW = re.compile(rf"point {NAME} {FRACTION} {FRACTION}|(?:line|ring|meet) {NAME} {NAME} {NAME}"
                  rf"|ring {NAME} {NAME} by {FRACTION}|meet {NAME} {NAME} {NAME} (?:first|second)")
-
-
-def names_in(drawing):
-    return [step_of(row).named() for row in drawing.rows()]
 
 
 def seen(drawing):
@@ -704,43 +700,10 @@ class Judged(Drawings):
         wide, places = meeting(roots, one, other)
         return wide, places[0 if words[4] == "first" else -1]
 
-    def chosen(self, wheel, things):
-        return things[wheel.below(len(things))]
-
-    def row_by_chance(self, wheel, drawing, most):
-        there = names_in(drawing)
-        kinds = {kind: [name for name in there if drawing.place(name)[0] == kind] for kind in ("point", "line", "ring")}
-        fresh = [name for name in ["".join(pair) for pair in zip("abcdefghij" * 3, "aaaaaaaaaabbbbbbbbbbcccccccccc")]
-                 if name not in there]
-
-        def name_of(kind):
-            if wheel.below(25) == 0 or not kinds[kind]:
-                return self.chosen(wheel, there + fresh[:2])
-            return self.chosen(wheel, kinds[kind])
-
-        def number():
-            top, bottom = wheel.between(-most, most), wheel.between(1, 1 + most // 2)
-            return str(top) if wheel.below(2) else f"{top}/{bottom}"
-
-        name = self.chosen(wheel, there) if there and wheel.below(25) == 0 else fresh[0]
-        way = wheel.below(13) if len(kinds["point"]) > 2 else 0
-        if way < 2:
-            return f"point {name} {number()} {number()}"
-        if way < 5:
-            return f"{'line' if way < 4 else 'ring'} {name} {name_of('point')} {name_of('point')}"
-        if way < 6:
-            return f"ring {name} {name_of('point')} by {number()}"
-        if way < 8:
-            return f"meet {name} {name_of('line')} {name_of('line')}"
-        if way < 12:
-            word = self.chosen(wheel, ["first", "second", "second", "first", "first", "third"])
-            return f"meet {name} {name_of('line' if way < 10 else 'ring')} {name_of('ring')} {word}"
-        return self.chosen(wheel, ["", "point", f"line {name}", f"ring {name} a by", f"point {name} 1 01"])
-
     def judged(self, seed, most, many, counts):
         wheel, drawing = Wheel(seed), Drawing()
         for _ in range(many):
-            row = self.row_by_chance(wheel, drawing, most)
+            row = row_by_chance(wheel, drawing, most)
             kind, wanted = self.due(drawing, row)
             counts[kind] = counts.get(kind, 0) + 1
             if kind is None:
